@@ -1,0 +1,1 @@
+"""Documents written in parts, decided for all documents."""

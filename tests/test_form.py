@@ -1,0 +1,114 @@
+"""Tests of the form of the package: its files, their sizes and imports, and the interface's names."""
+
+import ast
+import inspect
+import pathlib
+import re
+import unittest
+
+from maskwrites import errors, names, schemas
+
+PACKAGE = pathlib.Path(__file__).resolve().parent.parent / "maskwrites"
+
+FUNCTIONS = {
+    "errors": {},
+    "names": {name: ["value"] for name in ("is_name", "is_text", "is_number", "is_flag", "value_key")},
+    "schemas": {"is_kind": ["value"]},
+}
+METHODS = {
+    "__init__": ["self", "messages", "choices"], "__eq__": ["self", "other"], "kind_at": ["self", "path"],
+    "is_path": ["self", "value"], "fields": ["self", "path"], "mates": ["self", "path"],
+    "is_value": ["self", "path", "value"],
+}
+
+
+def sources():
+    return {path: path.read_text(encoding="utf-8") for path in sorted(PACKAGE.rglob("*.py"))}
+
+
+def trees():
+    return {path: ast.parse(text) for path, text in sources().items()}
+
+
+class FormTest(unittest.TestCase):
+    def test_the_folder_holds_plain_files_alone(self):
+        for path in PACKAGE.rglob("*"):
+            if "__pycache__" not in path.parts:
+                self.assertRegex(path.name, r"^(__init__|[a-z][a-z0-9_]*)\.py$")
+
+    def test_sizes(self):
+        for path, text in sources().items():
+            lines = text.splitlines()
+            self.assertLessEqual(len(lines), 399, path)
+            for line in lines:
+                self.assertLessEqual(len(line), 120, path)
+        for path, tree in trees().items():
+            for node in ast.walk(tree):
+                if isinstance(node, ast.FunctionDef):
+                    self.assertLessEqual(node.end_lineno - node.lineno + 1, 40, (path, node.name))
+
+    def test_characters(self):
+        for path, text in sources().items():
+            self.assertEqual(re.sub(r"[ -~\n]", "", text), "", path)
+            self.assertTrue(text.endswith("\n"), path)
+
+    def test_module_level(self):
+        allowed = (ast.ImportFrom, ast.FunctionDef, ast.ClassDef, ast.Assign, ast.Expr)
+        for path, tree in trees().items():
+            for node in tree.body:
+                self.assertIsInstance(node, allowed, path)
+            self.assertIsNotNone(ast.get_docstring(tree), path)
+
+    def test_imports_name_the_defining_file_of_the_package(self):
+        above = {}
+        for path, tree in trees().items():
+            above[path.stem] = []
+            for node in ast.walk(tree):
+                self.assertNotIsInstance(node, ast.Import, path)
+                if isinstance(node, ast.ImportFrom):
+                    self.assertRegex(node.module, r"^maskwrites\.[a-z]+$")
+                    stem = node.module.split(".")[1]
+                    above[path.stem].append(stem)
+                    defined = {
+                        part.name for part in ast.parse((PACKAGE / (stem + ".py")).read_text()).body
+                        if isinstance(part, (ast.FunctionDef, ast.ClassDef))
+                    }
+                    self.assertLessEqual({alias.name for alias in node.names}, defined)
+        self.check_no_ring(above)
+
+    def check_no_ring(self, above):
+        while above:
+            free = [stem for stem in above if not set(above[stem]) & set(above)]
+            self.assertNotEqual(free, [], above)
+            for stem in free:
+                del above[stem]
+
+    def test_builtins_are_the_few(self):
+        allowed = set((
+            "abs all any bool classmethod dict divmod enumerate int isinstance iter len list map max min next ord "
+            "property range repr reversed set sorted staticmethod str sum super tuple type zip IndexError KeyError "
+            "LookupError NotImplemented TypeError ValueError"
+        ).split())
+        every = set(vars(__builtins__) if not isinstance(__builtins__, dict) else __builtins__)
+        for path, tree in trees().items():
+            for node in ast.walk(tree):
+                if isinstance(node, ast.Name) and node.id in every:
+                    self.assertIn(node.id, allowed, path)
+
+    def test_functions_of_the_interface(self):
+        for module in (errors, names, schemas):
+            for name, told in FUNCTIONS[module.__name__.split(".")[1]].items():
+                function = getattr(module, name)
+                self.assertEqual(function.__module__, module.__name__)
+                self.assertEqual(list(inspect.signature(function).parameters), told)
+
+    def test_methods_of_the_interface_stand_in_the_class(self):
+        for name, told in METHODS.items():
+            method = vars(schemas.Schema)[name]
+            self.assertEqual(list(inspect.signature(method).parameters), told)
+        for name in ("messages", "choices"):
+            self.assertIsInstance(vars(schemas.Schema)[name], property)
+
+
+if __name__ == "__main__":
+    unittest.main()
