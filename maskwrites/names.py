@@ -37,3 +37,59 @@ def is_letter_row(value):
     """Tell whether any value is a string of letters a to z alone, perhaps of none."""
     # Not by islower or isalpha, which take letters beyond a to z.
     return isinstance(value, str) and all([sign in LETTERS for sign in value])
+
+
+def sorted_names(names):
+    """Return the ascending list of names."""
+    return sorted([str(name) for name in names])
+
+
+def sorted_paths(paths):
+    """Return the ascending list of tuples of names, each of one name or more."""
+    # A point comes ahead of all letters, so the texts stand as the tuples do.
+    return [tuple(text.split(".")) for text in sorted([str(".".join(path)) for path in paths])]
+
+
+def letter_after(letter):
+    """Return the next letter, for any but the last one."""
+    return LETTERS[LETTERS.index(letter) + 1]
+
+
+def name_after(name):
+    """Return the name that comes next, as Python compares strings."""
+    if len(name) < LONGEST_NAME:
+        return name + "a"
+    kept = name.rstrip("z")
+    return kept[:-1] + letter_after(kept[-1])
+
+
+def text_after(text):
+    """Return the text that comes next: shorter ones come first."""
+    kept = text.rstrip("z")
+    if kept == "":
+        return "a" * (len(text) + 1)
+    return kept[:-1] + letter_after(kept[-1]) + "a" * (len(text) - len(kept))
+
+
+def least_name(taken):
+    """Return the least name that is not among those that are taken."""
+    name = "a"
+    while name in taken:
+        name = name_after(name)
+    return name
+
+
+def least_text(barred):
+    """Return the least text that is not barred."""
+    text = ""
+    while text in barred:
+        text = text_after(text)
+    return text
+
+
+def least_number(barred):
+    """Return the least number that is not barred."""
+    number = 0
+    while number in barred:
+        number += 1
+    return number

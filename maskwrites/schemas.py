@@ -1,7 +1,7 @@
 """Schemas: messages with their fields, choices among fields, and the paths through them."""
 
 from maskwrites.errors import BadPath, BadSchema
-from maskwrites.names import is_flag, is_name, is_number, is_text
+from maskwrites.names import is_flag, is_name, is_number, is_text, sorted_names, sorted_paths
 
 SIMPLE = ("text", "number", "flag")
 MOST_MESSAGES = 6
@@ -71,7 +71,8 @@ def are_there(messages):
 def standing_below(messages, names, many):
     """Return the names of the messages that stand so many deep below those of the names."""
     for _ in range(many):
-        names = sorted({inner for name in names for inner in messages_in(messages[name])})
+        # As the keys of a dict, each name comes once.
+        names = list({inner: True for name in names for inner in messages_in(messages[name])})
     return names
 
 
@@ -103,7 +104,7 @@ def is_choice(fields, value):
         return False
     if not all([field in fields for field in value]):
         return False
-    return list(value) == sorted(set(value))
+    return all([value[at] < value[at + 1] for at in range(len(value) - 1)])
 
 
 def is_choice_list(fields, value):
@@ -140,9 +141,9 @@ class Schema:
         self._messages = {}
         self._choices = {}
         given = {} if choices is None else choices
-        for name in sorted(messages):
-            self._messages[name] = {field: messages[name][field] for field in sorted(messages[name])}
-            self._choices[name] = sorted(given.get(name, []))
+        for name in sorted_names(messages):
+            self._messages[name] = {field: messages[name][field] for field in sorted_names(messages[name])}
+            self._choices[name] = sorted_paths(given.get(name, []))
         self._kinds = {path: kind for path, kind in field_rows(self._messages, "top", ())}
 
     def __eq__(self, other):
@@ -171,7 +172,7 @@ class Schema:
 
     def fields(self, path):
         """Return the ascending fields of the message at a path, of the top for (), or raise BadPath."""
-        return sorted(self._messages[self._message_at(path)])
+        return list(self._messages[self._message_at(path)])
 
     def mates(self, path):
         """Return the ascending paths that may not be set beside the field at a path, or raise BadPath."""
@@ -189,6 +190,10 @@ class Schema:
     def is_value(self, path, value):
         """Tell whether any value may be set at a path, or raise BadPath."""
         return self._is_of_kind(self.kind_at(path), value)
+
+    def is_content(self, value):
+        """Tell whether any value is the content of a paper."""
+        return self._is_content("top", value)
 
     def _kind_found(self, path):
         """Return the kind at any value, None if it is not a path."""
