@@ -69,12 +69,13 @@ class Case:
         answer = self.judge(literal)
         if answer is not None:
             return [(answer, self)]
-        rows = [(answer, self.told(literal, answer)) for answer in (False, True)]
-        rows = [row for row in rows if row[1] is not None]
-        if len(rows) == 2:
-            for answer, case in rows:
-                case.asked = self.asked + ((literal, answer),)
-        return rows
+        no = self.told(literal, False)
+        yes = self.told(literal, True)
+        if no is None or yes is None:
+            return [(answer, case) for answer, case in ((False, no), (True, yes)) if case is not None]
+        no.asked = self.asked + ((literal, False),)
+        yes.asked = self.asked + ((literal, True),)
+        return [(False, no), (True, yes)]
 
     def judge(self, literal):
         """Return the answer that a literal surely has; None if this is not known."""

@@ -5,16 +5,23 @@ from maskwrites.names import least_number, least_text, value_key
 from maskwrites.papers import Paper
 
 
+def parts_of(case):
+    """Return the ascending places of the parts that are known to be set."""
+    return [at for at, word in enumerate(case.ground.words) if case.known[at] and word != "map"]
+
+
 def with_flags(case):
     """Return the case in which all flags that are set have their least values; None if they can have none."""
-    for at, word in enumerate(case.ground.words):
-        if word == "flag" and case.known[at] and at not in case.worths:
+    told = case
+    flags = [at for at in parts_of(case) if case.ground.words[at] == "flag"]
+    for at in flags:
+        if at not in told.worths:
             # What is unlike follows at once, so that the first value that can be is never wrong.
-            least = case.told(("is", at, False), True)
-            case = case.told(("is", at, True), True) if least is None else least
-            if case is None:
+            least = told.told(("is", at, False), True)
+            told = told.told(("is", at, True), True) if least is None else least
+            if told is None:
                 return None
-    return case
+    return told
 
 
 def is_possible(case):
@@ -27,11 +34,6 @@ def is_possible(case):
             return True
         rest = rest.told(literal, False)
     return rest is not None and with_flags(rest) is not None
-
-
-def parts_of(case):
-    """Return the ascending places of the parts that are known to be set."""
-    return [at for at, word in enumerate(case.ground.words) if case.known[at] and word != "map"]
 
 
 def least_values(case, parts):

@@ -48,9 +48,15 @@ def most_asked(rows):
     for row in rows:
         for literal, _ in row:
             many[literal] = many.get(literal, 0) + 1
-            if many[literal] > many.get(best, 0):
+            if many[literal] > many[best]:
                 best = literal
     return best
+
+
+def rarer_answer(rows, literal):
+    """Return the answer of a literal that is wrong for as many rows as can be."""
+    answers = [answer for row in rows for asked, answer in row if asked == literal]
+    return answers.count(False) > answers.count(True)
 
 
 def is_row_possible(case, row):
@@ -59,21 +65,33 @@ def is_row_possible(case, row):
     return inner is not None and is_possible(inner)
 
 
-def are_one_each(case, rows):
-    """Tell whether just one of some rows is for each paper of a case."""
-    left = open_rows(case, rows)
-    if not left:
+def is_one_full(case, rows):
+    """Tell whether just one of the open rows of a case is for each paper of it; None if it has to be parted."""
+    if not rows:
         return not is_possible(case)
-    for place, row in enumerate(left):
+    for place, row in enumerate(rows):
         if not row:
             # This one is for all papers of the case, so that no other one may be for any.
-            others = left[:place] + left[place + 1:]
+            others = rows[:place] + rows[place + 1:]
             return True not in [is_row_possible(case, other) for other in others]
-    literal = most_asked(left)
-    for answer in (False, True):
-        inner = case.told(literal, answer)
-        if inner is not None and not are_one_each(inner, left):
+    return None
+
+
+def are_one_each(case, rows):
+    """Tell whether just one of some rows is for each paper of a case."""
+    todo = [(case, rows)]
+    while todo:
+        inner, some = todo.pop()
+        left = open_rows(inner, some)
+        full = is_one_full(inner, left)
+        if full is False:
             return False
+        if full is None:
+            literal = most_asked(left)
+            first = rarer_answer(left, literal)
+            # The last one is looked at first: with fewer rows it shows sooner where none is for a paper.
+            cases = [inner.told(literal, answer) for answer in (not first, first)]
+            todo.extend([(told, left) for told in cases if told is not None])
     return True
 
 
