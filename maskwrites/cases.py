@@ -13,9 +13,10 @@ def same_literal(first, second):
 
 
 class Case:
-    """What is known of a paper over a ground. It is complete but for what is wanted and for flags that are unlike.
+    """What is known of a paper over a ground.
 
-    All places of which nothing is known may be unset, if one of each of the wants is set.
+    Once one place of each of the wants is known to be set, there is such a paper in which all places are unset that
+    are not known to be set: texts and numbers always have values left, and of flags leasts.py finds out.
     """
 
     def __init__(self, ground):

@@ -22,7 +22,7 @@ def ways_made(ground, state, at):
     if state[at] != MADE:
         return []
     way = [(("has", at), False)]
-    for place in ground.lower[at]:
+    for place in ground.reach[at]:
         if place != at:
             unset = ways_to_be_unset(ground, state[place], place)
             if unset is None:

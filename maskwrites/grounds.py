@@ -94,7 +94,7 @@ class Ground:
             if above >= 0:
                 self.inner[above].append(at)
         self.beside = [[self.numbers[mate] for mate in schema.mates(path)] for path in self.places]
-        self.lower = self._parts_at_or_below()
+        self.reach = self._parts_at_or_below()
 
     def _parts_at_or_below(self):
         """Return for each place the parts that may stand at it or below it: all but maps."""

@@ -24,16 +24,34 @@ def with_flags(case):
     return told
 
 
+def can_be_set(case, at):
+    """Tell whether nothing that is known of a case bars a place from being set."""
+    inner = case.told(("has", at), True)
+    return inner is not None and with_flags(inner) is not None
+
+
+def without_barred(case):
+    """Return the case in which those wanted places are unset that cannot be set; None if there is no such case."""
+    rest = case
+    for at in [place for want in case.wants for place in want]:
+        if rest is not None and rest.known[at] is None and not can_be_set(rest, at):
+            rest = rest.told(("has", at), False)
+    return rest
+
+
 def is_possible(case):
     """Tell whether there is a paper of a case."""
-    rest = case
-    while rest is not None and rest.wants:
-        literal = ("has", rest.wants[0][0])
-        inner = rest.told(literal, True)
+    # Without this, many wants that have nothing to do with one another would be tried in all combinations.
+    rest = without_barred(case)
+    if rest is None or with_flags(rest) is None:
+        return False
+    if not rest.wants:
+        return True
+    for at in rest.wants[0]:
+        inner = rest.told(("has", at), True)
         if inner is not None and is_possible(inner):
             return True
-        rest = rest.told(literal, False)
-    return rest is not None and with_flags(rest) is not None
+    return False
 
 
 def least_values(case, parts):

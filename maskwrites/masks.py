@@ -1,12 +1,13 @@
 """Masks: sets of paths of which none begins with another one."""
 
 from maskwrites.errors import BadMask
-from maskwrites.names import is_name, sorted_paths
+from maskwrites.names import sorted_paths
+from maskwrites.schemas import is_name_row
 
 
 def is_mask_path(value):
     """Tell whether any value is a tuple of one or more names."""
-    return isinstance(value, tuple) and len(value) > 0 and all([is_name(name) for name in value])
+    return is_name_row(value) and len(value) > 0
 
 
 def begins_with_one(path, paths):

@@ -50,6 +50,11 @@ def sorted_paths(paths):
     return [tuple(text.split(".")) for text in sorted([str(".".join(path)) for path in paths])]
 
 
+def are_ascending(values):
+    """Tell whether names, or tuples of names, are ascending and different."""
+    return all([values[at] < values[at + 1] for at in range(len(values) - 1)])
+
+
 def letter_after(letter):
     """Return the next letter, for any but the last one."""
     return LETTERS[LETTERS.index(letter) + 1]

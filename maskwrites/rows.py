@@ -2,8 +2,9 @@
 
 from maskwrites.cases import same_literal
 from maskwrites.grounds import map_names, paths_of_test
-from maskwrites.names import is_name
+from maskwrites.names import are_ascending
 from maskwrites.programs import are_two_leaves, is_leaf, is_test
+from maskwrites.schemas import is_name_row
 from maskwrites.states import MADE, UNSET, clear_state, first_state, set_question
 
 
@@ -12,18 +13,13 @@ def is_pair(value):
     return isinstance(value, tuple) and len(value) == 2
 
 
-def are_ascending(values):
-    """Tell whether names, or tuples of names, are ascending and different."""
-    return all([values[at] < values[at + 1] for at in range(len(values) - 1)])
-
-
 def is_more(schema, value):
     """Tell whether any value is a test whether a map has a name beside some."""
     if not isinstance(value, tuple) or len(value) != 3 or value[0] != "more":
         return False
-    if not schema.is_path(value[1]) or schema.kind_at(value[1])[0] != "map" or not isinstance(value[2], tuple):
+    if not schema.is_path(value[1]) or schema.kind_at(value[1])[0] != "map":
         return False
-    return all([is_name(name) for name in value[2]]) and are_ascending(value[2])
+    return is_name_row(value[2]) and are_ascending(value[2])
 
 
 def is_source(schema, path, value):
@@ -141,7 +137,7 @@ def result_of(ground, state):
 def message_source(ground, state, at):
     """Return the source of a message that is set if its own source tells so, or if it has a part below it."""
     places = []
-    for part in ground.lower[at]:
+    for part in ground.reach[at]:
         source = state[part]
         if source == MADE or source[0] == "value":
             return MADE

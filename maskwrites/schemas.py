@@ -1,7 +1,7 @@
 """Schemas: messages with their fields, choices among fields, and the paths through them."""
 
 from maskwrites.errors import BadPath, BadSchema
-from maskwrites.names import is_flag, is_name, is_number, is_text, sorted_names, sorted_paths
+from maskwrites.names import are_ascending, is_flag, is_name, is_number, is_text, sorted_names, sorted_paths
 
 SIMPLE = ("text", "number", "flag")
 MOST_MESSAGES = 6
@@ -102,9 +102,7 @@ def is_choice(fields, value):
     """Tell whether any value is a choice among the fields of a message."""
     if not is_name_row(value) or len(value) < 2:
         return False
-    if not all([field in fields for field in value]):
-        return False
-    return all([value[at] < value[at + 1] for at in range(len(value) - 1)])
+    return all([field in fields for field in value]) and are_ascending(value)
 
 
 def is_choice_list(fields, value):

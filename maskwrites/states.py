@@ -19,7 +19,7 @@ def first_state(ground):
 
 def clear_state(ground, state, at):
     """Clear a place in a state."""
-    for place in ground.lower[at]:
+    for place in ground.reach[at]:
         state[place] = UNSET
 
 

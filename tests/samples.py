@@ -135,10 +135,14 @@ class Chance:
     def some_steps(self, most, deep=0):
         return tuple([self.step(deep) for _ in range(self.random.randint(0, most))])
 
-    def program(self, most):
+    def program(self, most, forks=6):
+        """Return a program of so many steps, not counting those within "when", and so many that copy or are "when"."""
         while True:
+            steps = self.some_steps(most)
+            text = repr(steps)
             try:
-                return Program(self.schema, self.some_steps(most))
+                if text.count("('copy'") + text.count("('when'") <= forks:
+                    return Program(self.schema, steps)
             except BadProgram:
                 pass
 

@@ -6,19 +6,48 @@ import pathlib
 import re
 import unittest
 
-from maskwrites import errors, names, schemas
+from maskwrites import alike, changes, errors, masks, names, orders, papers, programs, schemas, tables
 
 PACKAGE = pathlib.Path(__file__).resolve().parent.parent / "maskwrites"
 
+MODULES = (alike, changes, errors, masks, names, orders, papers, programs, schemas, tables)
 FUNCTIONS = {
-    "errors": {},
     "names": {name: ["value"] for name in ("is_name", "is_text", "is_number", "is_flag", "value_key")},
     "schemas": {"is_kind": ["value"]},
+    "programs": {"is_test": ["schema", "value"], "is_step": ["schema", "value"], "holds": ["test", "paper"]},
+    "tables": {
+        "table": ["program"], "is_table": ["program", "value"], "row_for": ["table", "paper"],
+        "made_by": ["table", "paper"],
+    },
+    "alike": {"first_unlike": ["first", "second"], "are_alike": ["first", "second"]},
+    "changes": {"changed": ["program"], "first_outside": ["program", "mask"], "first_changed": ["program"]},
+    "orders": {"first_parted": ["first", "second"], "first_unsteady": ["program"], "spare_steps": ["program"]},
 }
 METHODS = {
-    "__init__": ["self", "messages", "choices"], "__eq__": ["self", "other"], "kind_at": ["self", "path"],
-    "is_path": ["self", "value"], "fields": ["self", "path"], "mates": ["self", "path"],
-    "is_value": ["self", "path", "value"],
+    schemas.Schema: {
+        "__init__": ["self", "messages", "choices"], "__eq__": ["self", "other"], "kind_at": ["self", "path"],
+        "is_path": ["self", "value"], "fields": ["self", "path"], "mates": ["self", "path"],
+        "is_value": ["self", "path", "value"],
+    },
+    masks.Mask: {
+        "__init__": ["self", "paths"], "__len__": ["self"], "__contains__": ["self", "path"],
+        "__and__": ["self", "other"], "__or__": ["self", "other"], "within": ["self", "other"],
+        "__eq__": ["self", "other"],
+    },
+    papers.Paper: {
+        "__init__": ["self", "schema", "content"], "__getitem__": ["self", "path"], "__contains__": ["self", "path"],
+        "__setitem__": ["self", "path", "value"], "clear": ["self", "path"], "parts": ["self"], "__len__": ["self"],
+        "copy": ["self"], "__eq__": ["self", "other"], "__lt__": ["self", "other"], "__ior__": ["self", "other"],
+        "only": ["self", "mask"], "outside": ["self", "mask"],
+    },
+    programs.Program: {
+        "__init__": ["self", "schema", "steps"], "__call__": ["self", "paper"], "__add__": ["self", "other"],
+        "__eq__": ["self", "other"],
+    },
+}
+PROPERTIES = {
+    schemas.Schema: ("messages", "choices"), masks.Mask: ("paths",), papers.Paper: ("schema", "content"),
+    programs.Program: ("schema", "steps"),
 }
 
 
@@ -69,12 +98,17 @@ class FormTest(unittest.TestCase):
                     self.assertRegex(node.module, r"^maskwrites\.[a-z]+$")
                     stem = node.module.split(".")[1]
                     above[path.stem].append(stem)
-                    defined = {
-                        part.name for part in ast.parse((PACKAGE / (stem + ".py")).read_text()).body
-                        if isinstance(part, (ast.FunctionDef, ast.ClassDef))
-                    }
-                    self.assertLessEqual({alias.name for alias in node.names}, defined)
+                    self.assertLessEqual({alias.name for alias in node.names}, self.defined_in(stem))
         self.check_no_ring(above)
+
+    def defined_in(self, stem):
+        names_there = set()
+        for part in ast.parse((PACKAGE / (stem + ".py")).read_text()).body:
+            if isinstance(part, (ast.FunctionDef, ast.ClassDef)):
+                names_there.add(part.name)
+            elif isinstance(part, ast.Assign):
+                names_there.update(target.id for target in part.targets)
+        return names_there
 
     def check_no_ring(self, above):
         while above:
@@ -96,18 +130,20 @@ class FormTest(unittest.TestCase):
                     self.assertIn(node.id, allowed, path)
 
     def test_functions_of_the_interface(self):
-        for module in (errors, names, schemas):
-            for name, told in FUNCTIONS[module.__name__.split(".")[1]].items():
+        for module in MODULES:
+            for name, told in FUNCTIONS.get(module.__name__.split(".")[1], {}).items():
                 function = getattr(module, name)
                 self.assertEqual(function.__module__, module.__name__)
                 self.assertEqual(list(inspect.signature(function).parameters), told)
 
     def test_methods_of_the_interface_stand_in_the_class(self):
-        for name, told in METHODS.items():
-            method = vars(schemas.Schema)[name]
-            self.assertEqual(list(inspect.signature(method).parameters), told)
-        for name in ("messages", "choices"):
-            self.assertIsInstance(vars(schemas.Schema)[name], property)
+        for kind, rows in METHODS.items():
+            for name, told in rows.items():
+                method = vars(kind)[name]
+                self.assertEqual(list(inspect.signature(method).parameters), told)
+        for kind, rows in PROPERTIES.items():
+            for name in rows:
+                self.assertIsInstance(vars(kind)[name], property)
 
 
 if __name__ == "__main__":

@@ -3,7 +3,10 @@
 import itertools
 import unittest
 
-from maskwrites.names import is_flag, is_name, is_number, is_text, value_key
+from maskwrites.names import (
+    are_ascending, is_flag, is_name, is_number, is_text, least_name, least_number, least_text, name_after, sorted_names,
+    sorted_paths, text_after, value_key,
+)
 from tests.anyvalues import any_values
 
 LETTERS = "abcdefghijklmnopqrstuvwxyz"
@@ -78,6 +81,43 @@ class ValueKeyTest(unittest.TestCase):
     def test_equal_values_have_equal_keys(self):
         for value in ("", "ab", 0, 10 ** 60 - 1, True, False):
             self.assertEqual(value_key(value), value_key(value))
+
+
+class NextTest(unittest.TestCase):
+    def test_texts_in_order(self):
+        letters = "abcdefghijklmnopqrstuvwxyz"
+        text = ""
+        for expected in [""] + [*letters] + [one + two for one in letters for two in letters] + ["aaa", "aab"]:
+            self.assertEqual(text, expected)
+            text = text_after(text)
+        self.assertEqual([text_after("azz"), text_after("zzz"), text_after("abz")], ["baa", "aaaa", "aca"])
+
+    def test_names_in_order(self):
+        told = ["a", "aa", "aaa", "aaaa", "aaaaa", "aaaaaa", "aaaaaaa", "aaaaaaaa", "aaaaaaab", "aaaaaaac"]
+        self.assertEqual([name_after(name) for name in told[:-1]], told[1:])
+        self.assertEqual(name_after("aaaaaaaz"), "aaaaaab")
+        self.assertEqual(name_after("aaaaaazz"), "aaaaab")
+        self.assertEqual(name_after("azzzzzzz"), "b")
+        self.assertEqual(name_after("b"), "ba")
+        for name in ("abc", "zzzzzzzy", "bz", "bzzzzzzz", "mzzzzzzy"):
+            self.assertTrue(name < name_after(name))
+            self.assertTrue(is_name(name_after(name)))
+
+    def test_the_least_ones_that_are_left(self):
+        self.assertEqual([least_text([]), least_text([""]), least_text(["", "b", "a"])], ["", "a", "c"])
+        self.assertEqual([least_number([]), least_number([1]), least_number([1, 0, 3])], [0, 0, 2])
+        self.assertEqual([least_name([]), least_name(["aa"]), least_name(["aa", "a"])], ["a", "a", "aaa"])
+
+    def test_sorting(self):
+        names = ["b", "aa", "a", "ab", "z", "ba"]
+        self.assertEqual(sorted_names(names), sorted(names))
+        paths = [row for many in (1, 2, 3) for row in itertools.product(("b", "aa", "a"), repeat=many)]
+        self.assertEqual(sorted_paths(paths), sorted(paths))
+        self.assertEqual(sorted_paths([]), [])
+        self.assertIs(are_ascending(["a", "aa", "b"]), True)
+        self.assertIs(are_ascending(["a", "a"]), False)
+        self.assertIs(are_ascending([("a", "b"), ("a",)]), False)
+        self.assertIs(are_ascending([]), True)
 
 
 if __name__ == "__main__":
