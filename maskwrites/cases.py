@@ -49,6 +49,12 @@ class Case:
         other.asked = self.asked
         return other
 
+    def without_wants(self):
+        """Return a case of its own in which nothing is wanted that is not known."""
+        other = self.twin()
+        other.wants = []
+        return other
+
     def told(self, literal, answer):
         """Return the case in which a literal has an answer, too; None if it cannot have it."""
         other = self.twin()

@@ -11,12 +11,16 @@ def parts_of(case):
 
 
 def with_flags(case):
-    """Return the case in which all flags that are set have their least values; None if they can have none."""
-    told = case
+    """Return the case in which all flags that are set have their least values; None if they can have none.
+
+    What is wanted of the case is not looked at.
+    """
+    # Flags that are unlike follow at once, and others need not be set where nothing is wanted: so the first value
+    # that can be is never wrong.
+    told = case.without_wants()
     flags = [at for at in parts_of(case) if case.ground.words[at] == "flag"]
     for at in flags:
         if at not in told.worths:
-            # What is unlike follows at once, so that the first value that can be is never wrong.
             least = told.told(("is", at, False), True)
             told = told.told(("is", at, True), True) if least is None else least
             if told is None:

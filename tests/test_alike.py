@@ -151,6 +151,24 @@ class HandTest(UnlikeTestCase):
         self.check(schema, (copy, when(("same", ("x",), ("y",)), [("clear", ("z",))])), (copy, ("clear", ("z",))), None)
         self.check(schema, (copy, when(("is", ("x",), 2), [("clear", ("z",))])), (copy,), {"y": 2, "z": 0})
 
+    def test_leaves_that_are_the_same(self):
+        schema = Schema({"top": {"x": NUMBER, "y": NUMBER, "z": NUMBER, "v": NUMBER}})
+        clear = [("clear", ("z",))]
+        same, value = ("same", ("x",), ("y",)), ("is", ("x",), 5)
+        self.check(schema, (when(value, [when(same, clear)]),), (), {"x": 5, "y": 5, "z": 0})
+        self.check(schema, (when(same, [when(value, clear)]),), (), {"x": 5, "y": 5, "z": 0})
+        self.check(schema, (when(same, [when(HAS_X, clear)]),), (), {"x": 0, "y": 0, "z": 0})
+        self.check(schema, (when(HAS_X, [when(same, clear)]),), (), {"x": 0, "y": 0, "z": 0})
+        other = ("same", ("y",), ("v",))
+        self.check(schema, (when(value, [when(same, [when(other, clear)])]),), (), {"v": 5, "x": 5, "y": 5, "z": 0})
+        self.check(schema, (when(other, [when(same, [when(value, clear)])]),), (), {"v": 5, "x": 5, "y": 5, "z": 0})
+        barred = ("is", ("y",), 0)
+        self.check(schema, (when(barred, [], [when(same, [when(HAS_X, clear)])]),), (), {"x": 1, "y": 1, "z": 0})
+        self.check(schema, (when(same, [when(barred, [], [when(HAS_X, clear)])]),), (), {"x": 1, "y": 1, "z": 0})
+        self.check(schema, (when(value, [when(same, [when(("is", ("y",), 5), [], clear)])]),), (), None)
+        self.check(schema, (when(same, [when(value, [when(("has", ("y",)), [], clear)])]),), (), None)
+        self.check(schema, (when(("has", ("y",)), [], [when(same, [when(HAS_X, clear)])]),), (), None)
+
     def test_unlike_leaves(self):
         schema = Schema({"top": {"x": NUMBER, "y": NUMBER, "z": NUMBER}})
         first = (when(("same", ("x",), ("y",)), [], [("clear", ("x",)), ("clear", ("y",))]),)

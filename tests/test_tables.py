@@ -200,6 +200,16 @@ class OtherRightTablesTest(RightTestCase):
                 self.check_right(program, table(program) + [(tests, result)], papers[::5])
                 self.check_right(program, [(tests, result)] + table(program), papers[::5])
 
+    def test_leaves_that_are_the_same_by_way_of_another_one(self):
+        schema = Schema({"top": {"x": NUMBER, "y": NUMBER, "z": NUMBER, "w": NUMBER}})
+        program = Program(schema)
+        papers = all_papers(schema, {"number": [0, 1]})
+        tests = [(("same", ("x",), ("y",)), True), (("same", ("z",), ("w",)), True), (("same", ("y",), ("z",)), True)]
+        for told in itertools.permutations(tests + [(("same", ("x",), ("w",)), False)]):
+            self.check_right(program, [((), ()), (told, ((("x",), value(5)),))], papers[::9])
+        for told in itertools.permutations(tests[:2] + [(("same", ("x",), ("w",)), False)]):
+            self.assertIs(is_table(program, [((), ()), (told, ((("x",), value(5)),))]), False)
+
     def test_what_is_as_it_was_told_besides(self):
         schema, papers = self.small()
         program = Program(schema, [("clear", ("m", "b"))])
@@ -347,6 +357,13 @@ class WrongTablesTest(RightTestCase):
             rows = [(((test, False),), ()), (((test, True),), wrong)]
             self.assertIs(is_table(program, rows), False)
             self.assertIs(is_table(program, [rows[0], (rows[1][0], ())]), True)
+        more = ("more", ("t",), ("k",))
+        rows = [(((more, True),), ()), (((more, False),), ((("t",), UNSET),))]
+        self.assertIs(is_table(program, rows), False)
+        self.assertIs(is_table(program, [rows[0], (rows[1][0], ((("t", "b"), UNSET),))]), True)
+        self.assertIs(is_table(program, [((), ((("t", "b"), UNSET),))]), False)
+        self.assertIs(is_table(program, [((), ((("t", "b"), source("t", "b")),))]), True)
+        self.assertIs(is_table(program, [((), ((("t", "b"), source("t", "c")),))]), False)
         program = Program(schema, [("clear", ("t", "k"))])
         self.assertIs(is_table(program, [((), ((("t",), UNSET),))]), False)
         self.assertIs(is_table(program, [((), ((("t", "k"), UNSET),))]), True)
