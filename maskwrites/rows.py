@@ -106,8 +106,6 @@ def told_source(ground, state, at):
     if ground.words[at] == "message":
         return None if source == ("some", (at,)) else source
     above = ground.above[at]
-    if ground.is_spare(at):
-        return None
     if above in ground.spares and state[ground.spares[above]] == UNSET:
         # The map is told as unset, so that only what is set need be told, but also what stays as it was.
         told = None if source == UNSET else source

@@ -175,6 +175,12 @@ class HandTest(UnlikeTestCase):
         self.check(schema, first, (), {"x": 0})
         both = when(HAS_X, [when(("has", ("y",)), first)])
         self.check(schema, (both,), (), {"x": 0, "y": 1})
+        messages = Schema({"top": {"m": message("m"), "x": NUMBER, "z": NUMBER}, "m": {"a": NUMBER, "z": NUMBER}})
+        for one, content in ((("x",), {"x": 0}), (("z",), {"z": 0}), (("m", "z"), {"m": {"a": 0}})):
+            step = when(("same", ("m", "a"), one), [], [("set", ("m",), {"a": 7, "z": 7})])
+            self.check(messages, (step,), (), content)
+            step = when(("has", ("m",)), [], [step])
+            self.check(messages, (step,), (), content if len(one) == 1 else None)
         either = (when(HAS_X, [], [when(("same", ("y",), ("z",)), [], [("clear", ("y",)), ("clear", ("z",))])]),)
         self.check(schema, either, (), {"y": 0})
 

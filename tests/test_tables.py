@@ -524,12 +524,11 @@ class LargeTest(unittest.TestCase):
 
     def test_what_cannot_be_beside_much_that_can(self):
         schema = Schema({
-            "top": {"m": message("m"), "n": message("m"), "o": message("m"), "f": FLAG, "g": FLAG, "h": FLAG},
+            "top": {"m": message("m"), "f": FLAG, "g": FLAG, "h": FLAG, "t": ("map", "text")},
             "m": {field: NUMBER for field in "abcdef"},
         }, {"m": [("a", "b", "c")]})
-        many = [(("same", ("m", field), ("n", field)), False) for field in "def"]
-        many += [(("same", ("o", field), ("n", "a")), False) for field in "def"]
-        many += [(("same", ("o", "d"), ("o", "e")), False)]
+        names = [one + other for one in "abcdefgh" for other in "abcdef"]
+        many = [(("same", ("t", one), ("t", other)), False) for one, other in zip(names[::2], names[1::2])]
         flags = [(("has", (field,)), True) for field in "fgh"]
         flags += [(("same", one, other), False) for one, other in itertools.combinations([("f",), ("g",), ("h",)], 2)]
         three = [("m", "a"), ("m", "b"), ("m", "c")]
