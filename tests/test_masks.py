@@ -79,6 +79,17 @@ class MakingTest(unittest.TestCase):
             Mask([("x",)] + wrong)
         self.assertIs(caught.exception.value, wrong[0])
 
+    def test_names_as_long_as_they_may_be(self):
+        mask = Mask([("abcdefgh",), ("z",) * 40])
+        self.assertEqual(mask.paths, [("abcdefgh",), ("z",) * 40])
+        self.assertIs(("abcdefgh", "a") in mask, True)
+        self.assertIs(("abcdefgh", "abcdefghi") in mask, False)
+        for wrong in (("abcdefghi",), ("x", "abcdefghi"), ("x", ""), ("",), ()):
+            with self.assertRaises(BadMask) as caught:
+                Mask([wrong])
+            self.assertIs(caught.exception.value, wrong)
+            self.assertIs(wrong in Mask([("x",)]), False)
+
     def test_what_is_handed_in_stays_and_is_copied(self):
         paths = [("y",), ("x", "a"), ("x",), ("y",)]
         mask = Mask(paths)
