@@ -1,8 +1,8 @@
 """Cases: what is known of a paper, and what follows from it."""
 
-# A literal is ("has", place): a leaf or a message is set; ("some", places): at least one of the places, names of
-# one map, is set; ("is", place, value): a leaf is set and has the value; ("same", place, place): two leaves are both
-# unset, or both set with the same value.
+# A literal is ("has", place): a leaf or a message is set; ("some", places): at least one of the places is set; ("is",
+# place, value): a leaf is set and has the value; ("same", place, place): two leaves are both unset, or both set with
+# the same value. Two messages may be told to be the same: both unset, or both set. They are not asked for it.
 
 
 def same_literal(first, second):
@@ -13,7 +13,7 @@ def same_literal(first, second):
 
 
 class Case:
-    """What is known of a paper over a ground.
+    """What is known of a paper over a ground, or of two.
 
     Once one place of each of the wants is known to be set, there is such a paper in which all places are unset that
     are not known to be set: texts and numbers always have values left, and of flags leasts.py finds out.
@@ -22,8 +22,8 @@ class Case:
     def __init__(self, ground):
         self.ground = ground
         # Of each place whether it is set, None where this is not known.
-        self.known = [None] * len(ground.places)
-        # How many parts are known to be set.
+        self.known = [None] * len(ground.words)
+        # How many parts of the first paper are known to be set.
         self.many = 0
         # Of a leaf: its value; the values that it has not if it is set; the leaves that it is the same as, itself
         # among them; those that it is not the same as.
@@ -57,19 +57,16 @@ class Case:
 
     def told(self, literal, answer):
         """Return the case in which a literal has an answer, too; None if it cannot have it."""
-        other = self.twin()
-        facts = other._facts_of(literal, answer)
-        if facts is None or not other._learn(facts):
-            return None
-        return other
+        return self.told_all([(literal, answer)])
 
     def told_all(self, pairs):
         """Return the case in which several literals have their answers; None if they cannot have them."""
-        case = self
+        other = self.twin()
         for literal, answer in pairs:
-            if case is not None:
-                case = case.told(literal, answer)
-        return case
+            facts = other._facts_of(literal, answer)
+            if facts is None or not other._learn(facts):
+                return None
+        return other
 
     def forks(self, literal):
         """Return the pairs of an answer that a literal may have here and the case in which it has it."""
@@ -138,7 +135,8 @@ class Case:
         if not answer:
             return [("set", place, False) for place in at]
         self.wants.append(at)
-        return [("set", self.ground.above[place], True) for place in at]
+        ways = self.ground.ways
+        return [("set", above, True) for above in ways[at[0]] if all([above in ways[place] for place in at])]
 
     def _link(self, first, second):
         """Keep that two leaves are the same, and return the facts that follow."""
@@ -207,7 +205,7 @@ class Case:
         facts.extend([("set", place, False) for place in self.ground.beside[at]])
         if self.ground.above[at] >= 0:
             facts.append(("set", self.ground.above[at], True))
-        if self.ground.words[at] != "map":
+        if self.ground.is_part_of_first(at):
             self.many += 1
         return facts + self._facts_of_flag(at)
 

@@ -71,34 +71,45 @@ def spare_names(schema, fields, named):
     return spares
 
 
+def shifted(rows, papers):
+    """Return the rows of places of one paper, and behind them these of each further paper."""
+    size = len(rows)
+    return [[at + size * number for at in row] for number in range(papers) for row in rows]
+
+
 class Ground:
     """The places that count, numbered in ascending order: all fields, and some names of maps.
 
     These are the names that something names, and of each map one to spare: whatever is asked cannot tell the
-    names apart that nothing names, and a least paper has at most one of them in a map.
+    names apart that nothing names, and a least paper has at most one of them in a map. The same holds for a least
+    pair, for two papers may have unlike values at the one name. The places of a second paper have the numbers behind
+    those of the first one.
     """
 
-    def __init__(self, schema, named):
+    def __init__(self, schema, named, papers=1):
         fields = field_paths(schema, ())
         spares = spare_names(schema, fields, named)
+        # These are of the first paper alone; a name to spare is told for its map.
         self.places = sorted_paths({path: True for path in fields + named + spares})
         self.numbers = {path: at for at, path in enumerate(self.places)}
-        self.words = [schema.kind_at(path)[0] for path in self.places]
-        # Of each map the place of its name to spare.
         self.spares = {self.numbers[path[:-1]]: self.numbers[path] for path in spares}
-        # What stands above a place, or -1; on the way to it from the top; straight below it; not beside it.
-        self.above = [self.numbers.get(path[:-1], -1) for path in self.places]
-        self.ways = [[self.numbers[path[:many]] for many in range(1, len(path) + 1)] for path in self.places]
-        self.inner = [[] for _ in self.places]
+        self.size = len(self.places)
+        self.words = [schema.kind_at(path)[0] for path in self.places] * papers
+        # On the way to a place from the top; what may not stand beside it; what stands straight below it.
+        ways = [[self.numbers[path[:many]] for many in range(1, len(path) + 1)] for path in self.places]
+        self.ways = shifted(ways, papers)
+        self.beside = shifted([[self.numbers[mate] for mate in schema.mates(path)] for path in self.places], papers)
+        # What stands above a place, or -1.
+        self.above = [way[-2] if len(way) > 1 else -1 for way in self.ways]
+        self.inner = [[] for _ in self.words]
         for at, above in enumerate(self.above):
             if above >= 0:
                 self.inner[above].append(at)
-        self.beside = [[self.numbers[mate] for mate in schema.mates(path)] for path in self.places]
         self.reach = self._parts_at_or_below()
 
     def _parts_at_or_below(self):
         """Return for each place the parts that may stand at it or below it: all but maps."""
-        rows = [[] for _ in self.places]
+        rows = [[] for _ in self.words]
         for at, way in enumerate(self.ways):
             if self.words[at] != "map":
                 for above in way:
@@ -112,3 +123,7 @@ class Ground:
     def is_spare(self, at):
         """Tell whether a place is one of a name of a map that nothing names."""
         return self.spares.get(self.above[at]) == at
+
+    def is_part_of_first(self, at):
+        """Tell whether a place is one of a part of the first paper."""
+        return at < self.size and self.words[at] != "map"

@@ -1,8 +1,9 @@
-"""Least papers of cases."""
+"""Least papers of cases, and least pairs of papers."""
 
 from maskwrites.contents import content_of
 from maskwrites.names import least_number, least_text, value_key
 from maskwrites.papers import Paper
+from maskwrites.states import UNSET, first_state
 
 
 def parts_of(case):
@@ -72,20 +73,50 @@ def least_values(case, parts):
     return values
 
 
+def is_set(case, source):
+    """Tell whether what a source tells is known to be set."""
+    if source[0] == "from":
+        return case.known[source[1]] is True
+    if source[0] == "some":
+        return any([case.known[at] is True for at in source[1]])
+    return source != UNSET
+
+
+def parts_by(case, state):
+    """Return the ascending places of the parts that are known to be set in papers as a state tells."""
+    return [at for at, source in enumerate(state) if case.ground.words[at] != "map" and is_set(case, source)]
+
+
+def worths_by(case, values, state):
+    """Return the dict from the leaves among these parts to their values."""
+    worths = {}
+    for at in parts_by(case, state):
+        if case.ground.is_leaf(at):
+            worths[at] = state[at][1] if state[at][0] == "value" else values[state[at][1]]
+    return worths
+
+
 class Least:
-    """The least paper of all cases that it was shown."""
+    """The least paper of all cases that it was shown, or the least pair of papers."""
 
     def __init__(self, schema, ground):
         self._schema = schema
         self._ground = ground
+        # How the papers stand that are sought: one paper as it was, if nothing else is told.
+        self._states = [first_state(ground)]
         self._best = None
-        self._values = {}
+        self._rows = []
+
+    def look_at(self, states):
+        """Tell how the papers stand in the cases that are shown from now on."""
+        self._states = states
 
     def may_take(self, case):
         """Tell whether a paper of a case could come ahead of the least one so far."""
         if self._best is None:
             return True
-        return case.many + min(1, len(case.wants)) <= self._best[0]
+        wants = [want for want in case.wants if all([self._ground.is_part_of_first(at) for at in want])]
+        return case.many + min(1, len(wants)) <= self._best[0][0]
 
     def show(self, case):
         """Keep the least paper of a case, if it comes ahead of the least one so far."""
@@ -99,23 +130,51 @@ class Least:
         if rest is not None and self.may_take(rest):
             self._take(rest)
 
-    def paper(self):
-        """Return the least paper, a new one, or None if there is none."""
+    def papers(self):
+        """Return the list of the least papers, new ones, or None if there are none."""
         if self._best is None:
             return None
-        rows = [(self._ground.places[at], self._values.get(at)) for at in self._best[1]]
-        return Paper(self._schema, content_of(rows))
+        return [Paper(self._schema, content_of(rows)) for rows in self._rows]
+
+    def paper(self):
+        """Return the least paper, a new one, or None if there is none."""
+        found_papers = self.papers()
+        return None if found_papers is None else found_papers[0]
 
     def _take(self, case):
-        """Keep the least paper of a case without wants, if it comes first."""
-        parts = parts_of(case)
-        if self._best is not None and (len(parts), parts) > (self._best[0], self._best[1]):
+        """Keep the least papers of a case without wants, if they come first."""
+        parts = parts_by(case, self._states[0])
+        if self._best is not None and (len(parts), parts) > self._best[0][:2]:
             return
         chosen = with_flags(case)
         if chosen is None:
             return
-        values = least_values(chosen, parts)
-        place = (len(parts), parts, [value_key(values[at]) for at in parts if at in values])
-        if self._best is None or place < self._best:
-            self._best = place
-            self._values = values
+        values = least_values(chosen, parts_of(chosen))
+        best = []
+        rows = []
+        for state in self._states:
+            parts = parts_by(case, state)
+            worths = worths_by(case, values, state)
+            best.append((len(parts), parts, [value_key(worths[at]) for at in parts if at in worths]))
+            rows.append([(self._ground.places[at], worths.get(at)) for at in parts])
+        if self._best is None or best < self._best:
+            self._best = best
+            self._rows = rows
+
+
+class Sight:
+    """Whether there is a paper, or a pair of papers, of any case that it was shown."""
+
+    def __init__(self):
+        self.is_found = False
+
+    def look_at(self, states):
+        """Take how the papers stand in the cases that are shown; there are papers or not, however they stand."""
+
+    def may_take(self, _):
+        """Tell whether a case still counts."""
+        return not self.is_found
+
+    def show(self, case):
+        """Keep whether there is a paper of a case."""
+        self.is_found = self.is_found or is_possible(case)

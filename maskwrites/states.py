@@ -2,19 +2,27 @@
 
 from maskwrites.cases import same_literal
 
-# A state is a list with what stands at each place of a ground: for a leaf UNSET, ("value", value), or ("from",
+# A state is a list with what stands at each place of a paper: for a leaf UNSET, ("value", value), or ("from",
 # place), as it was there; for a message UNSET, MADE, or ("some", places), set if one of these was set. Nothing is
-# told of maps, only of their names.
+# told of maps, only of their names. What was there is that of the first paper, or of the second one.
 UNSET = ("unset",)
 MADE = ("made",)
 
 
+def state_from(ground, start):
+    """Return the state of the papers as they were whose places are numbered from a start on."""
+    places = range(start, start + ground.size)
+    return [("some", (at,)) if ground.words[at] == "message" else ("from", at) for at in places]
+
+
 def first_state(ground):
-    """Return the state of papers as they were."""
-    state = []
-    for at, word in enumerate(ground.words):
-        state.append(("some", (at,)) if word == "message" else ("from", at))
-    return state
+    """Return the state of the papers as they were, of the first ones where there are two."""
+    return state_from(ground, 0)
+
+
+def second_state(ground):
+    """Return the state of the second papers as they were."""
+    return state_from(ground, ground.size)
 
 
 def clear_state(ground, state, at):
@@ -90,7 +98,7 @@ def set_question(ground, state, at):
     if source[0] == "from":
         return ("has", source[1])
     if source[0] == "some":
-        return ("has", source[1][0])
+        return ("has", source[1][0]) if len(source[1]) == 1 else source
     return source != UNSET
 
 

@@ -156,3 +156,51 @@ def is_right(schema, steps, rows, flats):
         if len(places) != 1 or result_by(schema, rows[places[0]][1], flat) != done(schema, steps, flat):
             return False
     return True
+
+
+def covers(paths, path):
+    """Tell whether a path begins with one of some paths."""
+    return any(begins(path, above) for above in paths)
+
+
+def read_by(schema, paths, flat):
+    """Return what is read of a flat document: the parts that are covered, and the messages above those."""
+    read = {part: value for part, value in flat.items() if covers(paths, part)}
+    for part in list(read):
+        for many in range(1, len(part)):
+            if is_message(schema, part[:many]):
+                read[part[:many]] = None
+    return read
+
+
+def value_in(schema, flat, path):
+    """Return the value at a path that is set: of a message or a map its content."""
+    if path in flat and flat[path] is not None:
+        return flat[path]
+    return content_of({part[len(path):]: value for part, value in flat.items() if begins(part, path) and part != path})
+
+
+def written_by(schema, paths, result, flat):
+    """Return a flat document after a result was written back into it."""
+    for path in sorted(paths):
+        if not is_set(result, path):
+            flat = cleared(flat, path)
+    for path in sorted(paths):
+        if is_set(result, path):
+            flat = put(schema, flat, path, value_in(schema, result, path))
+    return flat
+
+
+def later_ones(schema, paths, flat, steps):
+    """Return all flat documents that some steps make of one whose paths are covered, one step after the other."""
+    within = [step for step in steps if covers(paths, step[1])]
+    seen = {frozenset(flat.items()): flat}
+    todo = [flat]
+    while todo:
+        before = todo.pop()
+        for step in within:
+            after = done(schema, (step,), before)
+            if frozenset(after.items()) not in seen:
+                seen[frozenset(after.items())] = after
+                todo.append(after)
+    return list(seen.values())

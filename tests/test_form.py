@@ -6,11 +6,15 @@ import pathlib
 import re
 import unittest
 
-from maskwrites import alike, changes, errors, masks, names, orders, papers, programs, schemas, tables
+from maskwrites import (
+    alike, changes, clients, errors, guards, masks, names, orders, others, papers, programs, schemas, tables,
+)
 
 PACKAGE = pathlib.Path(__file__).resolve().parent.parent / "maskwrites"
 
-MODULES = (alike, changes, errors, masks, names, orders, papers, programs, schemas, tables)
+MODULES = (
+    alike, changes, clients, errors, guards, masks, names, orders, others, papers, programs, schemas, tables,
+)
 FUNCTIONS = {
     "names": {name: ["value"] for name in ("is_name", "is_text", "is_number", "is_flag", "value_key")},
     "schemas": {"is_kind": ["value"]},
@@ -21,6 +25,11 @@ FUNCTIONS = {
     },
     "alike": {"first_unlike": ["first", "second"], "are_alike": ["first", "second"]},
     "changes": {"changed": ["program"], "first_outside": ["program", "mask"], "first_changed": ["program"]},
+    "clients": {"first_unfaithful": ["client"]},
+    "others": {
+        "is_later": ["paper", "rights", "later"], "first_lost": ["client", "rights"], "need_safe": ["client", "rights"],
+    },
+    "guards": {"first_slipped": ["client", "rights", "guard"], "least_guards": ["client", "rights", "paths"]},
     "orders": {"first_parted": ["first", "second"], "first_unsteady": ["program"], "spare_steps": ["program"]},
 }
 METHODS = {
@@ -44,10 +53,14 @@ METHODS = {
         "__init__": ["self", "schema", "steps"], "__call__": ["self", "paper"], "__add__": ["self", "other"],
         "__eq__": ["self", "other"],
     },
+    clients.Client: {
+        "__init__": ["self", "schema", "reads", "program", "writes"], "read": ["self", "paper"],
+        "result": ["self", "paper"], "written": ["self", "paper", "later"], "alone": ["self", "paper"],
+    },
 }
 PROPERTIES = {
     schemas.Schema: ("messages", "choices"), masks.Mask: ("paths",), papers.Paper: ("schema", "content"),
-    programs.Program: ("schema", "steps"),
+    programs.Program: ("schema", "steps"), clients.Client: ("schema", "reads", "program", "writes"),
 }
 
 

@@ -123,7 +123,9 @@ class LanguageTest(unittest.TestCase):
         for path, tree in trees().items():
             for node in ast.walk(tree):
                 if isinstance(node, ast.Call) and isinstance(node.func, ast.Attribute):
-                    self.assertTrue(node.func.attr in METHODS or node.func.attr in own, (path, node.func.attr))
+                    # A program is called as it stands in an attribute.
+                    known = node.func.attr in METHODS or node.func.attr in own or node.func.attr == "_program"
+                    self.assertTrue(known, (path, node.func.attr))
                     self.assertFalse(node.func.attr.startswith("__"), path)
                     if node.func.attr not in own:
                         self.assertEqual(node.keywords, [], path)
@@ -141,7 +143,7 @@ class LanguageTest(unittest.TestCase):
                     for decorator in node.decorator_list:
                         self.assertEqual(ast.unparse(decorator), "property", path)
                     for default in node.args.defaults:
-                        self.assertIn(ast.unparse(default), ("None", "()"), path)
+                        self.assertIn(ast.unparse(default), ("None", "()", "1"), path)
                     self.assertIsNone(node.returns, path)
                 if isinstance(node, ast.arg):
                     self.assertIsNone(node.annotation, path)
