@@ -66,10 +66,10 @@ def same_pairs(first, second):
     return [(("same", at, second[1] if second[0] == "from" else second[1][0]), True)]
 
 
-def told_same(ground, case, mask, first, second):
-    """Return the case in which two states have the same parts and values as far as a mask covers; None if it cannot."""
+def told_same(ground, case, places, first, second):
+    """Return the case in which two states have the same parts and values at some places; None if it cannot be."""
     rows = []
-    for at in covered_places(ground, mask):
+    for at in places:
         if ground.words[at] != "map":
             pairs = same_pairs(first[at], second[at])
             if pairs is None:
@@ -112,8 +112,9 @@ def ground_of_slipped(client, rights, guard):
 def show_slipped(least, ground, client, rights, guard):
     """Show the cases in which a client with a guard is not as if at once."""
     start = first_state(ground)
+    guarded = covered_places(ground, guard)
     for later in later_states(ground, rights):
-        case = told_same(ground, Case(ground), guard, start, later)
+        case = told_same(ground, Case(ground), guarded, start, later)
         if case is not None:
             least.look_at([start, later])
             show_lost_later(least, ground, client, later, case)

@@ -7,13 +7,15 @@ import re
 import unittest
 
 from maskwrites import (
-    alike, changes, clients, errors, guards, masks, names, orders, others, papers, programs, schemas, tables,
+    alike, changes, clients, console, errors, guards, masks, names, orders, others, papers, programs, schemas, stores,
+    tables, texts, undo,
 )
 
 PACKAGE = pathlib.Path(__file__).resolve().parent.parent / "maskwrites"
 
 MODULES = (
-    alike, changes, clients, errors, guards, masks, names, orders, others, papers, programs, schemas, tables,
+    alike, changes, clients, console, errors, guards, masks, names, orders, others, papers, programs, schemas, stores,
+    tables, texts, undo,
 )
 FUNCTIONS = {
     "names": {name: ["value"] for name in ("is_name", "is_text", "is_number", "is_flag", "value_key")},
@@ -30,6 +32,12 @@ FUNCTIONS = {
         "is_later": ["paper", "rights", "later"], "first_lost": ["client", "rights"], "need_safe": ["client", "rights"],
     },
     "guards": {"first_slipped": ["client", "rights", "guard"], "least_guards": ["client", "rights", "paths"]},
+    "undo": {"first_muddled": ["program", "mask"], "least_kept": ["program", "paths"]},
+    "texts": {
+        "path_text": ["path"], "value_text": ["schema", "path", "value"], "step_text": ["schema", "step"],
+        "program_text": ["program"], "mask_text": ["mask"], "read_path": ["text"], "read_program": ["schema", "text"],
+        "read_mask": ["text"],
+    },
     "orders": {"first_parted": ["first", "second"], "first_unsteady": ["program"], "spare_steps": ["program"]},
 }
 METHODS = {
@@ -57,6 +65,12 @@ METHODS = {
         "__init__": ["self", "schema", "reads", "program", "writes"], "read": ["self", "paper"],
         "result": ["self", "paper"], "written": ["self", "paper", "later"], "alone": ["self", "paper"],
     },
+    stores.Store: {
+        "__init__": ["self", "schema", "content"], "paper": ["self"], "begin": ["self", "client", "guard"],
+        "finish": ["self", "number"], "run": ["self", "program"], "begun": ["self"], "history": ["self"],
+        "undo": ["self", "many"],
+    },
+    console.Console: {"__init__": ["self", "schema"], "__call__": ["self", "command"]},
 }
 PROPERTIES = {
     schemas.Schema: ("messages", "choices"), masks.Mask: ("paths",), papers.Paper: ("schema", "content"),

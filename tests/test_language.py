@@ -4,14 +4,14 @@ import ast
 import builtins
 import unittest
 
-from tests.test_form import trees
+from tests.test_form import PACKAGE, trees
 
 NODES = (
     ast.Module, ast.Expr, ast.Constant, ast.ImportFrom, ast.alias, ast.FunctionDef, ast.ClassDef, ast.arguments, ast.arg,
     ast.Assign, ast.AugAssign, ast.Return, ast.If, ast.For, ast.While, ast.Raise, ast.Delete, ast.Break, ast.Name,
     ast.Attribute, ast.Subscript, ast.Slice, ast.Call, ast.Compare, ast.BoolOp, ast.UnaryOp, ast.BinOp, ast.IfExp,
     ast.Tuple, ast.List, ast.Dict, ast.ListComp, ast.DictComp, ast.comprehension, ast.expr_context, ast.boolop,
-    ast.operator, ast.unaryop, ast.cmpop, ast.Pass, ast.Continue,
+    ast.operator, ast.unaryop, ast.cmpop, ast.Pass, ast.Continue, ast.Try, ast.ExceptHandler,
 )
 DOUBLE = (
     "__init__", "__eq__", "__len__", "__call__", "__iter__", "__lt__", "__add__", "__and__", "__or__", "__ior__",
@@ -162,6 +162,17 @@ class LanguageTest(unittest.TestCase):
                         self.assertNotIn(word, WORDS, path)
                     self.assertNotIn("%", node.value, path)
                     self.assertNotIn("__", node.value, path)
+
+    def test_own_errors_alone_are_caught(self):
+        own = {node.name for node in trees()[PACKAGE / "errors.py"].body if isinstance(node, ast.ClassDef)}
+        for path, tree in trees().items():
+            for node in ast.walk(tree):
+                if isinstance(node, ast.ExceptHandler):
+                    self.assertIn(node.type.id, own, path)
+                elif isinstance(node, ast.Try):
+                    self.assertEqual((node.orelse, node.finalbody), ([], []), path)
+                elif isinstance(node, ast.Raise):
+                    self.assertIn(node.exc.func.id, own | {"TypeError"}, path)
 
     def test_docstrings(self):
         for path, tree in trees().items():
