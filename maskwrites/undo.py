@@ -26,7 +26,7 @@ def show_muddled(least, ground, program, mask):
     for first, case in after_steps(ground, program.steps, start, kept):
         if least.may_take(case):
             for second, inner in after_steps(ground, program.steps, other, case):
-                inmost = told_same(ground, inner, range(ground.size), first, second)
+                inmost = told_same(ground, inner, list(range(ground.size)), first, second)
                 if inmost is not None and least.may_take(inmost):
                     show_ways(least, inmost, ways)
 

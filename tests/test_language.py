@@ -163,6 +163,23 @@ class LanguageTest(unittest.TestCase):
                     self.assertNotIn("%", node.value, path)
                     self.assertNotIn("__", node.value, path)
 
+    def test_what_is_iterated_is_so_at_once(self):
+        for path, tree in trees().items():
+            right = set()
+            for node in ast.walk(tree):
+                if isinstance(node, (ast.For, ast.comprehension)):
+                    right.add(node.iter)
+                elif isinstance(node, ast.Assign):
+                    right.add(node.value)
+                elif isinstance(node, ast.Call) and isinstance(node.func, ast.Name):
+                    if node.func.id in ("list", "tuple", "dict", "enumerate", "zip"):
+                        right.update(node.args[:1])
+            for node in ast.walk(tree):
+                if isinstance(node, ast.Call):
+                    name = node.func.id if isinstance(node.func, ast.Name) else getattr(node.func, "attr", "")
+                    if name in ("range", "zip", "enumerate", "reversed", "items", "keys", "values"):
+                        self.assertIn(node, right, (path, node.lineno))
+
     def test_own_errors_alone_are_caught(self):
         own = {node.name for node in trees()[PACKAGE / "errors.py"].body if isinstance(node, ast.ClassDef)}
         for path, tree in trees().items():
