@@ -36,19 +36,20 @@ class Console:
         return told
 
     def _answer(self, word, rest):
-        """Return the text for a command by its first word and what stands behind it, None if it is no command."""
+        """Return the text for a command by its first word and what stands behind it, None if it is no command.
+
+        If anything stands behind it, it begins with a blank.
+        """
         if word in ("one", "two"):
             return self._put(word, rest)
         if word in ("alike", "parted"):
             return self._compare(word) if rest == "" else None
-        if rest[1:4] not in self._programs or rest[:1] != " ":
+        if rest[1:4] not in self._programs:
             return None
         return self._tell(word, self._programs[rest[1:4]], rest[4:])
 
     def _put(self, word, rest):
         """Put a program, by its text behind a blank."""
-        if rest[:1] != " ":
-            return None
         self._programs[word] = read_program(self._schema, rest[1:])
         return "ok"
 

@@ -35,11 +35,6 @@ class Reader:
             self._at += 1
         return self._text[start:self._at]
 
-    def need_end(self):
-        """Raise BadText if something comes next."""
-        if self._at < len(self._text):
-            self.refuse()
-
     def refuse(self):
         """Raise BadText."""
         raise BadText(self._text)

@@ -190,19 +190,16 @@ def steps_from(schema, reader, deep):
 
 def read_path(text):
     """Return the path that has a text, or raise BadText."""
-    reader = Reader(text)
-    path = path_from(reader)
-    reader.need_end()
-    if not is_mask_path(path):
+    path = path_from(Reader(text))
+    # Where something stands behind what was read, this has not the whole text.
+    if not is_mask_path(path) or path_text(path) != text:
         raise BadText(text)
     return path
 
 
 def read_content(schema, text):
     """Return the content of a paper that has a text as a message's value, or raise BadText."""
-    reader = Reader(text)
-    content = value_from(schema, reader, ())
-    reader.need_end()
+    content = value_from(schema, Reader(text), ())
     if not schema.is_content(content) or plain_text(content) != text:
         raise BadText(text)
     return content
@@ -210,9 +207,7 @@ def read_content(schema, text):
 
 def read_program(schema, text):
     """Return the program that has a text, or raise BadText."""
-    reader = Reader(text)
-    steps = steps_from(schema, reader, 0)
-    reader.need_end()
+    steps = steps_from(schema, Reader(text), 0)
     # What was read may still be no steps, or written otherwise: with zeros ahead, or fields that are not ascending.
     if not all([is_step(schema, step) for step in steps]) or are_too_many(steps) or steps_text(schema, steps) != text:
         raise BadText(text)
@@ -227,7 +222,6 @@ def read_mask(text):
     paths = [path_from(reader)]
     while reader.skip(", "):
         paths.append(path_from(reader))
-    reader.need_end()
     if not all([is_mask_path(path) for path in paths]):
         raise BadText(text)
     mask = Mask(paths)
