@@ -16,30 +16,27 @@ def covered_places(ground, mask):
 
 
 def any_of(sources):
-    """Return the source of a message that is set if something is of what some sources tell."""
-    places = {}
+    """Return the source of a message that is set if something is of what some sources tell, which are no values."""
+    places = []
     for source in sources:
-        if source == MADE or source[0] == "value":
+        if source == MADE:
             return MADE
         if source[0] == "from":
-            places[source[1]] = True
+            places.append(source[1])
         elif source[0] == "some":
-            for at in source[1]:
-                places[at] = True
-    return ("some", tuple(sorted([int(at) for at in places]))) if places else UNSET
+            places.extend(source[1])
+    return ("some", tuple(places)) if places else UNSET
 
 
 def after_reading(ground, mask, state):
-    """Return the state of those parts that a mask covers, and of the messages above those."""
+    """Return the state of those parts that a mask covers, and of the messages above those, of papers or later ones."""
     covered = {at: True for at in covered_places(ground, mask)}
-    # A message that is covered itself is set if anything below it is.
-    tops = {at: True for at in covered if ground.above[at] not in covered or ground.words[ground.above[at]] == "map"}
     told = []
     for at, source in enumerate(state):
         if at in covered:
             told.append(source)
         elif ground.words[at] == "message":
-            told.append(any_of([state[place] for place in ground.reach[at] if place in tops]))
+            told.append(any_of([state[place] for place in ground.reach[at] if place in covered]))
         else:
             told.append(UNSET)
     return told
@@ -50,8 +47,6 @@ def write_had(ground, told, at, result):
     make_way(ground, told, at)
     for place in ground.reach[at]:
         told[place] = result[place]
-    if ground.words[at] == "message":
-        told[at] = MADE
 
 
 def written_state(ground, answers, result, state):

@@ -226,6 +226,24 @@ class UnfaithfulTest(LeastTestCase):
         self.check(schema, [("x",)], (("clear", ("m",)), test), [("m",), ("x",)], None)
         self.check(schema, [("m", "b"), ("x",)], (empty, test), [("m",), ("x",)], None)
 
+    def test_messages_above_what_is_read(self):
+        schema = Schema({
+            "top": {"m": message("m"), "x": NUMBER}, "m": {"a": NUMBER, "n": message("n"), "t": ("map", "number")},
+            "n": {"b": NUMBER},
+        })
+        for path in (("m", "n"), ("m", "n", "b"), ("m", "a"), ("m", "t"), ("m", "t", "k")):
+            # The messages above are read just where what is below them is there.
+            steps = (when(("has", ("m",)), [when(("has", path), [SET_X])]),)
+            self.check(schema, [path, ("x",)], steps, [("x",)], None)
+            steps = (when(("has", ("m",)), [SET_X]),)
+            self.check(schema, [path, ("x",)], steps, [("x",)], {"m": {}})
+            self.check(schema, [("x",)], steps, [("x",)], {"m": {}})
+        for paths in ([("m", "a"), ("m", "n")], [("m", "n", "b"), ("m", "t")]):
+            steps = (when(("has", ("m",)), [when(("has", path), [SET_X]) for path in paths]),)
+            self.check(schema, paths + [("x",)], steps, [("x",)], None)
+        steps = (when(("has", ("m", "n")), [when(("has", ("m",)), [SET_X])]),)
+        self.check(schema, [("m", "n", "b"), ("x",)], steps, [("x",)], {"m": {"n": {}}})
+
     def test_names_of_maps(self):
         schema = Schema({"top": {"t": ("map", "number"), "x": NUMBER}})
         has = when(("has", ("t",)), [SET_X])

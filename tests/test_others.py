@@ -185,6 +185,28 @@ class LostTest(LostTestCase):
         client = self.client(schema, [("m",)], (), [("m",)])
         self.check_lost(client, [("m", "a")], ({}, {"m": {}}))
 
+    def test_messages_above_what_is_read(self):
+        schema = Schema({
+            "top": {"k": message("m"), "m": message("m"), "x": NUMBER}, "m": {"a": NUMBER, "b": NUMBER, "n": message("n")},
+            "n": {"c": NUMBER},
+        }, {"top": [("k", "m")], "m": [("a", "b")]})
+        both = when(("has", ("m",)), [when(("has", ("m", "n")), [SET_X])], [("clear", ("x",))])
+        client = self.client(schema, [("m", "n")], (both,), [("x",)])
+        # The others made what is read, and so the message above it.
+        self.check_lost(client, [("m", "n", "c")], ({}, {"m": {"n": {}}}))
+        self.check_lost(client, [("m", "n")], ({}, {"m": {"n": {}}}))
+        self.check_lost(client, [("m", "a")], None)
+        has = when(("has", ("m",)), [SET_X], [("clear", ("x",))])
+        client = self.client(schema, [("m", "n")], (has,), [("x",)])
+        self.check_lost(client, [("m", "n", "c")], ({}, {"m": {"n": {}}}))
+        self.check_lost(client, [("m", "a"), ("m", "b")], None)
+        client = self.client(schema, [("m", "a"), ("m", "n", "c")], (has,), [("x",)])
+        # To set b clears a, so that nothing is left of what is read: neither the message above it.
+        self.check_lost(client, [("m", "b")], ({"m": {"a": 0}}, {"m": {}}))
+        self.check_lost(client, [("k", "a")], ({"m": {"a": 0}}, {"k": {}}))
+        self.check_lost(client, [("m", "n")], ({}, {"m": {"n": {"c": 0}}}))
+        self.check_lost(client, [("m", "n", "c")], ({}, {"m": {"n": {"c": 0}}}))
+
     def test_a_field_was_cleared_by_what_may_not_stand_beside_it(self):
         schema = Schema({"top": {"x": NUMBER, "y": NUMBER, "z": NUMBER, "m": message("m")}, "m": {"a": NUMBER}},
                         {"top": [("m", "x"), ("y", "z")]})
