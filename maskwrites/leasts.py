@@ -88,12 +88,8 @@ def parts_by(case, state):
 
 
 def worths_by(case, values, state):
-    """Return the dict from the leaves among these parts to their values."""
-    worths = {}
-    for at in parts_by(case, state):
-        if case.ground.is_leaf(at):
-            worths[at] = state[at][1] if state[at][0] == "value" else values[state[at][1]]
-    return worths
+    """Return the dict from the leaves among these parts to their values; the state tells none itself."""
+    return {at: values[state[at][1]] for at in parts_by(case, state) if case.ground.is_leaf(at)}
 
 
 class Least:

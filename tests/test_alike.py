@@ -185,6 +185,14 @@ class HandTest(UnlikeTestCase):
         self.check(schema, either, (), {"y": 0})
 
 
+    def test_one_part_for_two_that_are_wanted(self):
+        schema = Schema({"top": {"t": ("map", "number"), "x": NUMBER, "y": NUMBER}})
+        same = when(("same", ("t", "a"), ("y",)), [], [SET_X])
+        steps = when(("has", ("t",)), [same], [when(HAS_X, [("clear", ("x",))])])
+        self.check(schema, (steps,), (), {"t": {"a": 0}})
+        self.check(schema, (when(("has", ("t",)), [], [when(HAS_X, [("clear", ("x",))])]),), (), {"x": 0})
+
+
 class LeastValuesTest(UnlikeTestCase):
     def nth(self, kind, values):
         """Return the least value of a leaf for which steps that leave some values out do something."""
