@@ -19,10 +19,14 @@ def after_others(ground, state, at):
     return told
 
 
-def is_needless(ground, state, at):
-    """Tell whether the papers of a state are also those of the state after others set a place."""
-    told = after_others(ground, state, at)
-    return all([told[place] == state[place] for place in range(ground.size) if place not in ground.reach[at]])
+def is_needless(ground, state, places):
+    """Tell whether the papers of a state are also those of the state after others set one of some places."""
+    for at in places:
+        told = after_others(ground, state, at)
+        rest = [place for place in range(ground.size) if place not in ground.reach[at]]
+        if told != state and all([told[place] == state[place] for place in rest]):
+            return True
+    return False
 
 
 def later_states(ground, rights):
@@ -39,10 +43,7 @@ def later_states(ground, rights):
             if told not in states:
                 states.append(told)
                 todo.append(told)
-    return [
-        state for state in states
-        if not [at for at in places if after_others(ground, state, at) != state and is_needless(ground, state, at)]
-    ]
+    return [found for found in states if not is_needless(ground, found, places)]
 
 
 def same_pairs(first, second):
