@@ -92,6 +92,32 @@ def worths_by(case, values, state):
     return {at: values[state[at][1]] for at in parts_by(case, state) if case.ground.is_leaf(at)}
 
 
+def shown_by(ground, state):
+    """Return the dict from the places that a state shows to those where it shows them."""
+    shown = {}
+    for at, source in enumerate(state):
+        if ground.words[at] != "map" and source[0] in ("from", "some"):
+            shown[source[1] if source[0] == "from" else source[1][0]] = at
+    return shown
+
+
+def least_parts(case, state):
+    """Return how many parts papers as a state tells have at least, and the ascending parts they then have at least.
+
+    No paper of the case comes ahead of these, neither one with more parts nor one with as many.
+    """
+    shown = shown_by(case.ground, state)
+    parts = parts_by(case, state)
+    taken = []
+    for want in case.wants:
+        places = [shown[at] for at in want if at in shown]
+        # Wants that share no place ask for a part each.
+        if len(places) == len(want) and not [at for at in places if at in taken]:
+            taken.extend(places)
+            parts.append(min([int(at) for at in places]))
+    return (len(parts), sorted([int(at) for at in parts]))
+
+
 class Least:
     """The least paper of all cases that it was shown, or the least pair of papers."""
 
@@ -111,8 +137,25 @@ class Least:
         """Tell whether a paper of a case could come ahead of the least one so far."""
         if self._best is None:
             return True
-        wants = [want for want in case.wants if all([self._ground.is_part_of_first(at) for at in want])]
-        return case.many + min(1, len(wants)) <= self._best[0][0]
+        if case.many > self._best[0][0]:
+            return False
+        least = least_parts(case, self._states[0])
+        if least != self._best[0][:2]:
+            return least < self._best[0][:2]
+        # Where the first paper surely has just these parts, the second one counts as well.
+        if len(self._states) == 1 or parts_by(case, self._states[0]) != least[1]:
+            return True
+        return self._may_take_second(case)
+
+    def _may_take_second(self, case):
+        """Tell whether a pair of a case could come first whose first paper has the parts of the least one so far."""
+        chosen = with_flags(case)
+        if chosen is None:
+            return False
+        first = self._place_of(chosen, least_values(chosen, parts_of(chosen)), self._states[0])
+        if first != self._best[0]:
+            return first < self._best[0]
+        return least_parts(case, self._states[1]) <= self._best[1][:2]
 
     def show(self, case):
         """Keep the least paper of a case, if it comes ahead of the least one so far."""
@@ -137,25 +180,27 @@ class Least:
         found_papers = self.papers()
         return None if found_papers is None else found_papers[0]
 
+    def _place_of(self, case, values, state):
+        """Return what the papers of a case are ordered by that stand as a state tells."""
+        parts = parts_by(case, state)
+        worths = worths_by(case, values, state)
+        return (len(parts), parts, [value_key(worths[at]) for at in parts if at in worths])
+
     def _take(self, case):
         """Keep the least papers of a case without wants, if they come first."""
-        parts = parts_by(case, self._states[0])
-        if self._best is not None and (len(parts), parts) > self._best[0][:2]:
-            return
         chosen = with_flags(case)
         if chosen is None:
             return
         values = least_values(chosen, parts_of(chosen))
-        best = []
-        rows = []
-        for state in self._states:
-            parts = parts_by(case, state)
-            worths = worths_by(case, values, state)
-            best.append((len(parts), parts, [value_key(worths[at]) for at in parts if at in worths]))
-            rows.append([(self._ground.places[at], worths.get(at)) for at in parts])
+        best = [self._place_of(chosen, values, state) for state in self._states]
         if self._best is None or best < self._best:
             self._best = best
-            self._rows = rows
+            self._rows = [self._rows_of(chosen, values, state) for state in self._states]
+
+    def _rows_of(self, case, values, state):
+        """Return the pairs of path and value, or None, for the parts of a paper that stands as a state tells."""
+        worths = worths_by(case, values, state)
+        return [(self._ground.places[at], worths.get(at)) for at in parts_by(case, state)]
 
 
 class Sight:

@@ -46,6 +46,8 @@ def is_plain(node):
         return is_plain(node.left) or is_plain(node.right)
     if isinstance(node, ast.Constant):
         return True
+    if isinstance(node, ast.ListComp):
+        return is_plain(node.elt)
     return isinstance(node, ast.Call) and isinstance(node.func, ast.Name) and node.func.id in ("str", "int", "len")
 
 

@@ -290,6 +290,25 @@ class LostTest(LostTestCase):
         client = self.client(schema, tops, copies, [("z", "a")])
         self.assertIsNone(self.check_soon(first_lost, client, Mask(tops)))
 
+    def test_maps_with_many_names(self):
+        names = [one + two for one in "abc" for two in "abcdefgh"]
+        schema = Schema({
+            "top": {"m": message("m"), **{name: ("map", "number") for name in "tuvw"}}, "m": {name: NUMBER for name in "abcd"},
+        })
+        sets = tuple([("set", (name,), {inner: 1 for inner in names}) for name in "tuvw"])
+        maps = [(name,) for name in "tuvw"]
+        each = [when(("has", (one,)), [("set", ("m", two), 1)], [("clear", ("m", two))]) for one, two in zip("tuvw", "abcd")]
+        client = self.client(schema, maps, (*each, *sets), [("m", name) for name in "abcd"])
+        pair = self.check_soon(first_lost, client, Mask(maps))
+        self.assertEqual([paper.content for paper in pair], [{}, {"t": {"a": 0}}])
+        every = [("set", ("m", "a"), 1)] + [when(("has", path), [], [("clear", ("m", "a"))]) for path in maps]
+        client = self.client(schema, maps, (*every, *sets), [("m", "a")])
+        pair = self.check_soon(first_lost, client, Mask(maps))
+        self.assertEqual([paper.content for paper in pair], [{}, {name: {"a": 0} for name in "tuvw"}])
+        pair = self.check_soon(first_lost, client, Mask(maps[:1]))
+        three = {name: {"a": 0} for name in "uvw"}
+        self.assertEqual([paper.content for paper in pair], [three, {"t": {"a": 0}, **three}])
+
 
 class SafeTest(LostTestCase):
     def test_lost_is_raised_anew(self):

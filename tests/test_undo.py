@@ -175,6 +175,19 @@ class MuddledTest(UndoTestCase):
         pair = self.check_soon(first_muddled, Program(schema, whens), Mask([(name, "b") for name in "uvwx"]))
         self.assertIsNone(pair)
 
+    def test_maps_with_many_names(self):
+        names = [one + two for one in "abc" for two in "abcdefgh"]
+        schema = Schema({"top": {"x": NUMBER, **{name: ("map", "flag") for name in "tuvw"}}})
+        sets = tuple([("set", (name,), {inner: True for inner in names}) for name in "tuvw"])
+        need = [("set", ("x",), 1)] + [when(("has", (name,)), [], [("clear", ("x",))]) for name in "tuvw"]
+        program = Program(schema, (*need, *sets))
+        pair = self.check_soon(first_muddled, program, Mask([("x",)]))
+        self.assertEqual([paper.content for paper in pair], [{}, {"t": {"a": False}}])
+        pair = self.check_soon(first_muddled, program, Mask([("x",)] + [("t", name) for name in ("a", "aa", "ab")]))
+        self.assertEqual([paper.content for paper in pair], [{}, {"t": {"aaa": False}}])
+        told = self.check_soon(least_kept, program, [("t",), ("u",), ("v",), ("w",)])
+        self.assertEqual(told, [])
+
 
 class KeptTest(UndoTestCase):
     def check_kept(self, schema, steps, paths, told):
