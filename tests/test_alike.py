@@ -192,6 +192,15 @@ class HandTest(UnlikeTestCase):
         self.check(schema, (steps,), (), {"t": {"a": 0}})
         self.check(schema, (when(("has", ("t",)), [], [when(HAS_X, [("clear", ("x",))])]),), (), {"x": 0})
 
+    def test_lesser_values_of_the_same_parts(self):
+        for kind, values in ((NUMBER, (0, 1, 2)), (TEXT, ("", "a", "b")), (FLAG, (False, True))):
+            schema = Schema({"top": {"v": kind, "x": NUMBER}})
+            for value in values[:2]:
+                either = when(("is", ("v",), value), [SET_X], [("set", ("x",), 2)])
+                self.check(schema, (when(("has", ("v",)), [either]),), (), {"v": values[0]})
+                turned = when(("is", ("v",), value), [], [("set", ("x",), 2)])
+                self.check(schema, (when(("has", ("v",)), [turned]),), (), {"v": [one for one in values if one != value][0]})
+
 
 class LeastValuesTest(UnlikeTestCase):
     def nth(self, kind, values):

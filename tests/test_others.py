@@ -290,6 +290,19 @@ class LostTest(LostTestCase):
         client = self.client(schema, tops, copies, [("z", "a")])
         self.assertIsNone(self.check_soon(first_lost, client, Mask(tops)))
 
+    def test_lesser_values_of_the_same_parts(self):
+        schema = Schema({"top": {"w": NUMBER, "x": NUMBER, "y": NUMBER, "z": NUMBER}})
+        either = when(("is", ("x",), 0), [("set", ("z",), 1)], [("set", ("z",), 2)])
+        client = self.client(schema, [("x",)], (when(("has", ("x",)), [either], [("clear", ("z",))]),), [("z",)])
+        self.check_lost(client, [("x",)], ({}, {"x": 0}))
+        # A first paper that comes ahead counts more than a second one with fewer parts.
+        clear = [("clear", ("z",))]
+        both = when(("is", ("x",), 0), [when(("has", ("w",)), [], clear)])
+        steps = (*clear, when(("has", ("y",)), [("set", ("z",), 1)]), both, when(("has", ("x",)), [], clear))
+        client = self.client(schema, [("w",), ("x",), ("y",)], steps, [("z",)])
+        self.check_lost(client, [("w",), ("y",)], ({"x": 0}, {"w": 0, "x": 0, "y": 0}))
+        self.check_lost(client, [("y",)], ({"x": 1}, {"x": 1, "y": 0}))
+
     def test_maps_with_many_names(self):
         names = [one + two for one in "abc" for two in "abcdefgh"]
         schema = Schema({
