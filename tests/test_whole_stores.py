@@ -4,13 +4,15 @@ import unittest
 
 from maskwrites.alike import are_alike
 from maskwrites.clients import Client, first_unfaithful
+from maskwrites.console import Console
 from maskwrites.errors import Refused
 from maskwrites.guards import first_slipped, least_guards
 from maskwrites.masks import Mask
 from maskwrites.orders import first_parted, spare_steps
-from maskwrites.others import first_lost
+from maskwrites.others import first_lost, is_later
 from maskwrites.papers import Paper
 from maskwrites.programs import Program
+from maskwrites.schemas import Schema
 from maskwrites.stores import Store
 from maskwrites.texts import mask_text, program_text, read_mask, read_program
 from maskwrites.undo import first_muddled, least_kept
@@ -183,6 +185,36 @@ class AlikeTest(unittest.TestCase):
                     if client.reads == world.tops:
                         self.assertEqual(other.alone(paper), client.alone(paper))
         self.assertGreater(alike, 30)
+
+
+class LeastSchemasTest(unittest.TestCase):
+    def test_a_schema_without_fields(self):
+        schema = Schema({"top": {}})
+        program, paper = Program(schema), Paper(schema)
+        client = Client(schema, Mask(), program, Mask())
+        self.assertIsNone(first_unfaithful(client))
+        self.assertIsNone(first_lost(client, Mask()))
+        self.assertIsNone(first_slipped(client, Mask(), Mask()))
+        self.assertIsNone(first_muddled(program, Mask()))
+        self.assertEqual([least_guards(client, Mask(), []), least_kept(program, ())], [[()], [()]])
+        self.assertIs(is_later(paper, Mask(), paper), True)
+        store = Store(schema)
+        self.assertEqual([store.begin(client, Mask()), store.finish(1), store.history()], [1, True, [("write", 1)]])
+        commands = ("alike", "parted", "run one {}", "changed one", "outside two (none)", "show two", "one nothing")
+        told = ["alike", "any order", "{}", "(none)", "within", "nothing", "ok"]
+        self.assertEqual([Console(schema)(command) for command in commands], told)
+
+    def test_a_message_without_fields(self):
+        schema = Schema({"top": {"e": ("message", "e")}, "e": {}})
+        turn = ("when", ("has", ("e",)), (("clear", ("e",)),), (("set", ("e",), {}),))
+        program, mask = Program(schema, (turn,)), Mask([("e",)])
+        client = Client(schema, mask, program, mask)
+        self.assertIsNone(first_unfaithful(client))
+        self.assertEqual([paper.content for paper in first_lost(client, mask)], [{}, {"e": {}}])
+        self.assertEqual(least_guards(client, mask, [("e",)]), [(("e",),)])
+        self.assertIsNone(first_muddled(program, Mask()))
+        self.assertEqual(read_program(schema, program_text(program)), program)
+        self.assertEqual(Console(schema)("run one {e={}}"), "{e={}}")
 
 
 if __name__ == "__main__":
